@@ -1,0 +1,1 @@
+"""Yes-no tables covered by the fewest full blocks."""
