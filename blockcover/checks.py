@@ -1,17 +1,21 @@
-"""What is a table, a cell and a block, asked of values of any kind.
+"""What is a table, a count, a cell and a block, asked of values of any kind.
 
 Each check asks for the kind of a value before it compares or measures it, so that values of
 any kind are refused and not stumbled over. No message shows a refused value: Python itself
 fails to write out numbers of many figures.
 """
 
-from blockcover.errors import BadBlock, BadCell, BadTable
+from blockcover.errors import BadBlock, BadCell, BadCount, BadTable, TooGreat
 
 MOST = 5
 
 
 def is_number(value):
     return isinstance(value, int) and not isinstance(value, bool)
+
+
+def is_count(value):
+    return is_number(value) and value >= 0
 
 
 def is_row(value):
@@ -64,6 +68,16 @@ def is_block(table, value):
 def check_table(value):
     if not is_table(value):
         raise BadTable("a table is a list of 1 to 5 texts of 1 to 5 signs 0 and 1, all of as many")
+
+
+def check_size(table, most):
+    if len(table) > most or len(table[0]) > most:
+        raise TooGreat(f"the table has more than {most} rows or columns")
+
+
+def check_count(value):
+    if not is_count(value):
+        raise BadCount("a count is a number from 0 on")
 
 
 def check_cell(table, value):

@@ -59,6 +59,12 @@ def no_tables():
     return wrong
 
 
+def no_counts():
+    """Values that are no number from 0 on."""
+    wrong = [value for value in other_kinds() if type(value) is not int or value < 0]
+    return wrong + [-2, -5, "1", "-1", b"1", [1], (1,), {1}, {1: 1}, (0, 0), [[]], "one", ["1"], range(1), -(10 ** 9)]
+
+
 def no_cells(table):
     """Values that are no cell of the table."""
     many, wide = len(table), len(table[0])
@@ -100,6 +106,11 @@ def small_tables(most_cells=9):
     """All tables of at most so many cells."""
     sizes = [(many, wide) for many in range(1, 6) for wide in range(1, 6) if many * wide <= most_cells]
     return [table for many, wide in sizes for table in tables(many, wide)]
+
+
+def within(most, told):
+    """Those of the tables that have at most so many rows and columns."""
+    return [table for table in told if len(table) <= most and len(table[0]) <= most]
 
 
 def drawn_tables(many, wide, times):

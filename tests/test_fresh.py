@@ -3,8 +3,11 @@
 import copy
 import unittest
 
+from blockcover.answers import Barred, Covered, Parted, Split
 from blockcover.blocks import apart, full, greatest, near
+from blockcover.covers import covered, fewest, fewest_parts, how_many_parts, parted
 from blockcover.errors import CoverError
+from blockcover.rank import rank
 from blockcover.tables import changed, plain, together, turned
 from samples import drawn_tables, small_tables
 
@@ -19,7 +22,26 @@ ASKED = {
     "greatest": lambda table: greatest(table),
     "near": lambda table: near(table, (0, 0), (1, 1)),
     "apart": lambda table: apart(table),
+    "covered by none": lambda table: field_of(covered(table, 0)),
+    "covered by 1": lambda table: field_of(covered(table, 1)),
+    "covered by 3": lambda table: field_of(covered(table, 3)),
+    "covered by 5": lambda table: field_of(covered(table, 5)),
+    "fewest": lambda table: fewest(table),
+    "parted into none": lambda table: field_of(parted(table, 0)),
+    "parted into 2": lambda table: field_of(parted(table, 2)),
+    "parted into 4": lambda table: field_of(parted(table, 4)),
+    "fewest parts": lambda table: fewest_parts(table),
+    "how many parts": lambda table: how_many_parts(table, 2),
+    "rank": lambda table: rank(table),
+    "covered shows": lambda table: Covered([([0], [0]), ([0, 1], [0, 1])]).shows(table, 2),
+    "barred shows": lambda table: Barred(("cell", (0, 0), [("apart", [(1, 1)])])).shows(table, 1),
+    "parted shows": lambda table: Parted([([0], [0]), ([1], [0, 1])]).shows(table, 2),
+    "split shows": lambda table: Split(("cell", (0, 0), [("rank",)])).shows(table, 1),
 }
+
+
+def field_of(told):
+    return told.blocks if isinstance(told, (Covered, Parted)) else told.tree
 
 
 def answer(ask, table):
@@ -40,8 +62,16 @@ def spoil(told):
         told.append("spoilt")
 
 
+def lists_in(told):
+    """All lists within, one that stands in several places so often."""
+    within = [one for part in told for one in lists_in(part)] if isinstance(told, (list, tuple)) else []
+    return within + [told] if isinstance(told, list) else within
+
+
 def some_tables():
-    return small_tables(6) + drawn_tables(3, 3, 20) + drawn_tables(5, 5, 5) + [["11111"] * 5, ["11", "11"], ["1"]]
+    needing_cases = [["0111", "1011", "1101", "1110"], ["01111", "10111", "11011", "11101", "11110"]]
+    greater = drawn_tables(3, 3, 20) + drawn_tables(5, 5, 5) + needing_cases
+    return small_tables(6) + greater + [["11111"] * 5, ["11", "11"], ["1"]]
 
 
 class FreshTest(unittest.TestCase):
@@ -73,6 +103,20 @@ class FreshTest(unittest.TestCase):
         for table in some_tables():
             parts = [part for block in greatest(table) for part in block]
             self.assertEqual(len({id(part) for part in parts}), len(parts))
+            for most in range(5):
+                parts = lists_in(field_of(covered(table, most)))
+                self.assertEqual(len({id(part) for part in parts}), len(parts))
+
+    def test_an_answer_shows_the_same_when_another_one_was_spoilt(self):
+        for table in some_tables():
+            for most in range(5):
+                one, other = covered(table, most), covered(table, most)
+                spoil(field_of(one))
+                self.assertIs(other.shows(table, most), True)
+                if max(len(table), len(table[0])) <= 4:
+                    one, other = parted(table, most), parted(table, most)
+                    spoil(field_of(one))
+                    self.assertIs(other.shows(table, most), True)
 
     def test_what_is_handed_in_may_be_changed_and_asked_again(self):
         for name, ask in ASKED.items():

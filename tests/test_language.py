@@ -1,4 +1,4 @@
-"""The mechanical rules of LANGUAGE.md, and the names of the interface, as far as they are built."""
+"""The mechanical rules of LANGUAGE.md, and the names of the interface."""
 
 import ast
 import inspect
@@ -7,7 +7,7 @@ import re
 import unittest
 
 import blockcover
-from blockcover import blocks, errors, tables
+from blockcover import answers, blocks, covers, errors, rank, tables
 
 PACKAGE = pathlib.Path(blockcover.__file__).parent
 BARRED = re.compile(r"\b(type|typing|typing_extensions|enum|Enum|IntEnum|StrEnum|Flag|IntFlag|Generic|Protocol|ABC|"
@@ -16,6 +16,10 @@ BARRED = re.compile(r"\b(type|typing|typing_extensions|enum|Enum|IntEnum|StrEnum
 INTERFACE = {
     tables: {"turned": ["table"], "plain": ["table"], "together": ["one", "other"], "changed": ["table", "cell"]},
     blocks: {"full": ["table", "block"], "greatest": ["table"], "near": ["table", "one", "other"], "apart": ["table"]},
+    covers: {"covered": ["table", "most"], "fewest": ["table"], "parted": ["table", "most"], "fewest_parts": ["table"],
+             "how_many_parts": ["table", "many"]},
+    rank: {"rank": ["table"]},
+    answers: {"Covered": ["blocks"], "Barred": ["tree"], "Parted": ["blocks"], "Split": ["tree"]},
 }
 
 
@@ -56,6 +60,12 @@ class InterfaceTest(unittest.TestCase):
         for module, functions in INTERFACE.items():
             for name, arguments in functions.items():
                 self.assertEqual(list(inspect.signature(getattr(module, name)).parameters), arguments, name)
+
+    def test_answers(self):
+        for name in ("Covered", "Barred", "Parted", "Split"):
+            kind = getattr(answers, name)
+            self.assertEqual(kind.__bases__, (answers.Answer,))
+            self.assertEqual(list(inspect.signature(vars(kind)["shows"]).parameters), ["self", "table", "most"])
 
     def test_errors(self):
         for name in ("CoverError", "BadTable", "BadCell", "BadBlock", "BadCount", "TooGreat"):
