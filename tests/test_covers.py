@@ -42,6 +42,22 @@ def shows_blocks(blocks, table, most, parting):
     return not parting or len(set(had)) == len(had)
 
 
+def check_other_questions(test, ask, parting):
+    """Each answer asked of other tables and counts than its own."""
+    asked = tables(2, 2) + tables(2, 3)[::5] + drawn_tables(3, 3, 10) + drawn_tables(4, 4, 3) + FOURS[2:]
+    trees = [Trees(table, parting) for table in asked]
+    for table in asked[::2] + FOURS:
+        for count in range(5):
+            told = ask(table, count)
+            for other, looked_at in zip(asked, trees):
+                for most in range(6):
+                    if isinstance(told, (Covered, Parted)):
+                        expected = shows_blocks(told.blocks, other, most, parting)
+                    else:
+                        expected = looked_at.hold(told.tree, most)
+                    test.assertIs(told.shows(other, most), expected, (table, count, other, most))
+
+
 class CoveredTest(unittest.TestCase):
     def test_examples(self):
         self.assertEqual(covered(["0"], 0).blocks, [])
@@ -75,18 +91,7 @@ class CoveredTest(unittest.TestCase):
             self.assertIs(covered(table, count).shows(table, count), True)
 
     def test_shows_of_other_tables_and_counts(self):
-        asked = tables(2, 2) + tables(2, 3)[::5] + drawn_tables(3, 3, 12) + drawn_tables(4, 4, 3) + FOURS[2:]
-        trees = [Trees(table, False) for table in asked]
-        for table in asked[::2] + FOURS:
-            for count in range(5):
-                told = covered(table, count)
-                for other, looked_at in zip(asked, trees):
-                    for most in range(6):
-                        if isinstance(told, Covered):
-                            expected = shows_blocks(told.blocks, other, most, False)
-                        else:
-                            expected = looked_at.hold(told.tree, most)
-                        self.assertIs(told.shows(other, most), expected, (table, count, other, most))
+        check_other_questions(self, covered, False)
 
 
 class FewestTest(unittest.TestCase):
@@ -168,18 +173,7 @@ class PartedTest(unittest.TestCase):
             self.assertEqual(fewest_parts(plain(table)), fewest_parts(table), table)
 
     def test_shows_of_other_tables_and_counts(self):
-        asked = tables(2, 2) + tables(2, 3)[::5] + drawn_tables(3, 3, 8) + drawn_tables(4, 4, 3) + FOURS[2:]
-        trees = [Trees(table, True) for table in asked]
-        for table in asked[::2] + FOURS:
-            for count in range(5):
-                told = parted(table, count)
-                for other, looked_at in zip(asked, trees):
-                    for most in range(5):
-                        if isinstance(told, Parted):
-                            expected = shows_blocks(told.blocks, other, most, True)
-                        else:
-                            expected = looked_at.hold(told.tree, most)
-                        self.assertIs(told.shows(other, most), expected, (table, count, other, most))
+        check_other_questions(self, parted, True)
 
 
 class HowManyPartsTest(unittest.TestCase):
